@@ -1,0 +1,1 @@
+"""Leafway: a log whose every entry is shown by a short way."""

@@ -1,0 +1,86 @@
+"""A part of ../shared/LANGUAGE.md that is easily told: each file of the package keeps to it."""
+
+import ast
+import builtins
+import pathlib
+import re
+import unittest
+
+PACKAGE = pathlib.Path(__file__).resolve().parent.parent / "leafway"
+
+BUILTINS = set("""len range enumerate zip min max sum abs sorted reversed int str bool list tuple dict set isinstance
+    ord repr any all divmod Exception ValueError TypeError KeyError IndexError LookupError""".split())
+
+PLAIN = (ast.Import, ast.ImportFrom, ast.FunctionDef, ast.ClassDef, ast.Assign, ast.Expr)
+
+BARRED = (ast.Global, ast.Set, ast.Await, ast.AsyncFunctionDef, ast.Div, ast.Try, ast.Lambda, ast.With)
+
+WORDS = ("import *", "typing", "enum", "dataclass", "overload", "namedtuple", "_wall", "__name__")
+
+
+class Language(unittest.TestCase):
+
+    def each(self):
+        """Each file with its text and its tree."""
+        for path in sorted(PACKAGE.glob("*.py")):
+            text = path.read_text(encoding="utf-8")
+            yield path, text, ast.parse(text)
+
+    def test_files(self):
+        names = [path.name for path in PACKAGE.iterdir() if path.name != "__pycache__"]
+        self.assertIn("__init__.py", names)
+        for name in names:
+            self.assertRegex(name, r"\A[a-z0-9_]+\.py\Z")
+
+    def test_sizes_and_signs(self):
+        for path, text, tree in self.each():
+            self.assertRegex(text, r"\A[ -~\n]*\Z", path.name)
+            self.assertLessEqual(len(text.splitlines()), 399, path.name)
+            self.assertLessEqual(max(len(line) for line in text.splitlines()), 120, path.name)
+            for node in ast.walk(tree):
+                if isinstance(node, ast.FunctionDef):
+                    self.assertLessEqual(node.end_lineno - node.lineno + 1, 40, node.name)
+
+    def test_statements(self):
+        for path, text, tree in self.each():
+            for node in tree.body:
+                self.assertIsInstance(node, PLAIN, (path.name, node.lineno))
+            for node in ast.walk(tree):
+                self.assertNotIsInstance(node, BARRED, (path.name, getattr(node, "lineno", 0)))
+                self.assertFalse(getattr(node, "decorator_list", []), path.name)
+            for word in WORDS:
+                self.assertNotIn(word, text, path.name)
+
+    def test_imports_are_of_the_very_file_and_in_no_ring(self):
+        needs = {}
+        for path, _, tree in self.each():
+            needs[path.stem] = []
+            for node in ast.walk(tree):
+                self.assertNotIsInstance(node, ast.Import, path.name)
+                if isinstance(node, ast.ImportFrom):
+                    self.assertIn(node, tree.body)
+                    file = re.fullmatch(r"leafway\.([a-z0-9_]+)", node.module).group(1)
+                    needs[path.stem].append(file)
+                    self.assertLessEqual({one.name for one in node.names}, self.defined(file), path.name)
+        while needs:
+            free = [file for file in needs if not any(one in needs for one in needs[file])]
+            self.assertTrue(free, needs)
+            needs = {file: needs[file] for file in needs if file not in free}
+
+    def defined(self, file):
+        """The names that a file binds itself."""
+        tree = ast.parse((PACKAGE / (file + ".py")).read_text())
+        names = {node.name for node in tree.body if isinstance(node, (ast.FunctionDef, ast.ClassDef))}
+        return names | {one.id for node in tree.body if isinstance(node, ast.Assign) for one in node.targets}
+
+    def test_builtins(self):
+        known = set(dir(builtins))
+        for path, _, tree in self.each():
+            for node in ast.walk(tree):
+                if isinstance(node, ast.Name) and node.id in known:
+                    self.assertIn(node.id, BUILTINS, (path.name, node.lineno))
+                    self.assertIsInstance(node.ctx, ast.Load, (path.name, node.lineno))
+                if isinstance(node, (ast.FunctionDef, ast.ClassDef)):
+                    self.assertNotIn(node.name, known, path.name)
+                if isinstance(node, ast.arg):
+                    self.assertNotIn(node.arg, known, path.name)
