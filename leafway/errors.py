@@ -5,7 +5,6 @@ class NoPlace(LookupError):
     """A place, or another number, that is not there."""
 
     def __init__(self, place):
-        LookupError.__init__(self, place)
         self.place = place
 
 
@@ -13,7 +12,6 @@ class BadText(ValueError):
     """A text that nothing has; line is its first wrong line, from 1."""
 
     def __init__(self, line):
-        ValueError.__init__(self, line)
         self.line = line
 
 
@@ -21,18 +19,18 @@ class CanNot(ValueError):
     """What is asked for does not exist."""
 
     def __init__(self):
-        ValueError.__init__(self)
+        pass
 
 
 class TooMuch(ValueError):
     """What is asked for would be too great."""
 
     def __init__(self):
-        ValueError.__init__(self)
+        pass
 
 
 class Unfit(ValueError):
     """The arguments do not fit together."""
 
     def __init__(self):
-        ValueError.__init__(self)
+        pass
