@@ -1,4 +1,4 @@
-"""Plain values: numbers, and tuples in place of lists."""
+"""Plain values: numbers, tuples that begin with a word, and tuples in place of lists."""
 
 
 def is_number(thing):
@@ -9,6 +9,16 @@ def is_number(thing):
 def is_number_from(least, thing):
     """Tell whether thing is a number that is not below least."""
     return is_number(thing) and thing >= least
+
+
+def begins(thing, word, many):
+    """Tell whether thing is a tuple of so many parts, the first of which is word."""
+    return isinstance(thing, tuple) and len(thing) == many and thing[0] == word
+
+
+def is_pair(thing):
+    """Tell whether thing is a tuple of two."""
+    return isinstance(thing, tuple) and len(thing) == 2
 
 
 def tupled(value):
@@ -29,7 +39,8 @@ def _copy_next(sources, copies):
     """Copy the next part of the innermost source, or open it if it has parts of its own."""
     source, parts = sources[-1], copies[-1]
     part = source[len(parts)]
-    if not isinstance(part, (list, tuple)):
+    if not _has_list(part):
+        # Not copied: seals that are one object are compared at once, however great they are.
         parts.append(part)
     elif _is_second_half(source, parts) and part == source[1]:
         # Halves are often one object, at each level: to walk through both would double the work each time.
@@ -37,6 +48,20 @@ def _copy_next(sources, copies):
     else:
         sources.append(part)
         copies.append([])
+
+
+def _has_list(value):
+    """Tell whether value is a list or has one in it."""
+    waiting = [value]
+    while waiting:
+        part = waiting.pop()
+        if isinstance(part, list):
+            return True
+        if isinstance(part, tuple):
+            # As in _copy_next, equal halves are walked through once.
+            alike = begins(part, "node", 3) and part[1] == part[2]
+            waiting.extend(part[:2] if alike else part)
+    return False
 
 
 def _is_second_half(source, parts):

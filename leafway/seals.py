@@ -1,6 +1,6 @@
 """Entries, sealers, seals and matters, and the seal of a matter."""
 
-from leafway.plain import is_number, is_number_from, tupled
+from leafway.plain import begins, is_number, is_number_from, tupled
 from leafway.sha import codes_of, hex_numbers, hex_text, sha
 
 
@@ -15,7 +15,7 @@ def is_sealer(thing):
         return False
     if thing == ("sha",) or thing == ("whole",):
         return True
-    return _begins(thing, "weak", 3) and is_number_from(2, thing[1]) and is_number_from(0, thing[2])
+    return begins(thing, "weak", 3) and is_number_from(2, thing[1]) and is_number_from(0, thing[2])
 
 
 def is_seal(sealer, thing):
@@ -38,28 +38,33 @@ def is_matter(sealer, thing):
 
 def seal_of(sealer, matter):
     """Return the seal of matter by sealer."""
+    return sealed(sealer, tupled(matter))
+
+
+def sealed(sealer, matter):
+    """Return the seal of a matter that has no lists in it."""
     if sealer[0] == "sha":
         return hex_text(sha(_sha_numbers(matter)))
     if sealer[0] == "whole":
-        return tupled(matter)
+        return matter
     return _weak_seal(sealer[1], sealer[2], matter)
 
 
-def _begins(thing, word, many):
-    """Tell whether thing is a tuple of so many parts, the first of which is word."""
-    return isinstance(thing, tuple) and len(thing) == many and thing[0] == word
+def is_seals(sealer, thing):
+    """Tell whether thing is a tuple, maybe (), of seals by sealer."""
+    return isinstance(thing, tuple) and all(is_seal(sealer, own) for own in thing)
 
 
 def _is_node(thing):
     """Tell whether thing has the form of a node, whatever its halves are."""
-    return _begins(thing, "node", 3)
+    return begins(thing, "node", 3)
 
 
 def _is_end(thing):
     """Tell whether thing is a matter that has no halves."""
-    if _begins(thing, "leaf", 2):
+    if begins(thing, "leaf", 2):
         return is_entry(thing[1])
-    return _begins(thing, "none", 1)
+    return begins(thing, "none", 1)
 
 
 def _is_sha_seal(thing):

@@ -79,3 +79,19 @@ def short(thing):
         return repr(thing)[:300]
     except ValueError:  # Python writes no numbers of more than 4300 figures.
         return "with a great number"
+
+
+def variants(thing, pool):
+    """Return things like thing, each unlike it in one part at any depth: replaced, left out, doubled or put in."""
+    found = list(pool)
+    if isinstance(thing, (list, tuple)):
+        found += [list(thing), thing[::-1], thing + thing[-1:], (thing,)]
+        for at, part in enumerate(thing):
+            found.append(thing[:at] + thing[at + 1:])
+            found += [thing[:at] + (one,) + thing[at:] for one in pool[:3]]
+            found += [thing[:at] + (one,) + thing[at + 1:] for one in variants(part, pool)]
+    elif isinstance(thing, int) and not isinstance(thing, bool):
+        found += [thing + 1, thing - 1, -thing, str(thing)]
+    elif isinstance(thing, str):
+        found += [thing + "a", thing[:-1], thing.upper(), thing + "\n"]
+    return found

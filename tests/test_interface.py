@@ -15,6 +15,20 @@ INTERFACE = {
             "codes_of": "text"},
     "seals": {"is_entry": "thing", "is_sealer": "thing", "is_seal": "sealer thing", "is_matter": "sealer thing",
               "seal_of": "sealer matter"},
+    "roots": {"crown": "size", "root": "sealer log", "head_of": "sealer log", "heads_along": "sealer log",
+              "is_head": "sealer thing", "stretches": "size", "seal_of_stretch": "sealer log stretch",
+              "tops_of": "sealer log", "is_tops": "sealer thing", "grown": "sealer tops entry",
+              "head_by": "sealer tops"},
+    "ways": {"nodes_above": "size place", "neighbours": "size place", "way_length": "size place", "lengths": "size",
+             "shortest": "size", "way": "sealer log size place", "root_by": "sealer size place entry way",
+             "is_way": "sealer head place entry thing", "is_shown": "sealer thing",
+             "clash_of": "sealer head place one other", "stays": "size bigger place",
+             "shows": "size place stretches", "unlike_logs": "size place stretches"},
+    "rises": {"rise_stretches": "old size", "rise_length": "old size", "rise": "sealer log old size",
+              "roots_by_rise": "sealer old size way", "is_rise": "sealer thing", "joined": "sealer near far"},
+    "many": {"many_stretches": "size places", "many_length": "size places", "many": "sealer log size places",
+             "root_by_many": "sealer size entries way", "is_many": "sealer thing", "is_all": "sealer thing",
+             "thinned": "sealer told places", "united": "sealer one other"},
 }
 
 

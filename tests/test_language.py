@@ -73,8 +73,24 @@ class Language(unittest.TestCase):
         names = {node.name for node in tree.body if isinstance(node, (ast.FunctionDef, ast.ClassDef))}
         return names | {one.id for node in tree.body if isinstance(node, ast.Assign) for one in node.targets}
 
+    def test_no_name_within_is_that_of_an_import(self):
+        for path, _, tree in self.each():
+            imported = {one.name for node in tree.body if isinstance(node, ast.ImportFrom) for one in node.names}
+            for node in ast.walk(tree):
+                if isinstance(node, ast.arg):
+                    self.assertNotIn(node.arg, imported, path.name)
+                if isinstance(node, ast.Name) and isinstance(node.ctx, ast.Store):
+                    self.assertNotIn(node.id, imported, (path.name, node.lineno))
+
+    def test_imports_are_used(self):
+        for path, _, tree in self.each():
+            used = {node.id for node in ast.walk(tree) if isinstance(node, ast.Name)}
+            for node in tree.body:
+                if isinstance(node, ast.ImportFrom):
+                    self.assertLessEqual({one.name for one in node.names}, used, path.name)
+
     def test_builtins(self):
-        known = set(dir(builtins))
+        known = set(dir(builtins)) - {"_"}
         for path, _, tree in self.each():
             for node in ast.walk(tree):
                 if isinstance(node, ast.Name) and node.id in known:

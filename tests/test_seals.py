@@ -1,11 +1,11 @@
 """Entries, sealers, seals and matters [3] [5]."""
 
 import copy
-import hashlib
 import unittest
 
 from leafway.seals import is_entry, is_matter, is_seal, is_sealer, seal_of
 from tests.helper import check_call, check_thing, listed, nested, odd_values
+from tests.reckoning import sha_text, weak_number
 
 SHA, WHOLE, FEW = ("sha",), ("whole",), ("weak", 1000, 5)
 BIG = 10 ** 9
@@ -14,29 +14,6 @@ SIGNS = "".join(chr(code) for code in range(32, 127))
 WORDS = ("none", "leaf", "node", "sha", "whole", "weak")
 ENTRIES = ("", " ", "a", "ab", "ba", "ann 5", "~" * 200, SIGNS, SIGNS + SIGNS) + WORDS + tuple(SIGNS)
 NONE, LEAF = ("none",), ("leaf", "a")
-
-
-def weak_number(m, k, matter):
-    """The seal by ("weak", m, k), reckoned with whole numbers to the end."""
-    if matter[0] == "none":
-        value = k
-    elif matter[0] == "leaf":
-        many = len(matter[1])
-        value = (k + 1) * 131 ** many + sum(ord(sign) * 131 ** (many - 1 - at) for at, sign in enumerate(matter[1]))
-    else:
-        value = 7 * matter[1] + 3 * matter[2] + k + 2
-    return value - value // m * m
-
-
-def sha_text(matter):
-    """The seal by ("sha",), by Python's own SHA-256."""
-    if matter[0] == "none":
-        octets = b""
-    elif matter[0] == "leaf":
-        octets = b"\x00" + matter[1].encode("ascii")
-    else:
-        octets = b"\x01" + bytes.fromhex(matter[1]) + bytes.fromhex(matter[2])
-    return hashlib.sha256(octets).hexdigest()
 
 
 def chain(levels, end=NONE):
