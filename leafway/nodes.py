@@ -29,8 +29,6 @@ def halves_by(node, place):
 def is_node_of(size, stretch):
     """Tell whether stretch is one of the nodes of size."""
     begin, end = stretch
-    if end > size:
-        return False
     node = (0, size)
     # The only node that stretch could be is one that holds its first place and is not shorter than it.
     while node[1] - node[0] > end - begin:

@@ -25,7 +25,7 @@ def tupled(value):
     """Return value with a tuple for each list in it, at any depth."""
     # A list of what is still open instead of recursion: made-up seals may be nested deeply.
     sources, copies = [(value,)], [[]]
-    while len(copies) > 1 or not copies[0]:
+    while not copies[0]:
         if len(copies[-1]) < len(sources[-1]):
             _copy_next(sources, copies)
         else:
@@ -42,9 +42,9 @@ def _copy_next(sources, copies):
     if not _has_list(part):
         # Not copied: seals that are one object are compared at once, however great they are.
         parts.append(part)
-    elif _is_second_half(source, parts) and part == source[1]:
+    elif parts and part == source[len(parts) - 1]:
         # Halves are often one object, at each level: to walk through both would double the work each time.
-        parts.append(parts[1])
+        parts.append(parts[-1])
     else:
         sources.append(part)
         copies.append([])
@@ -62,8 +62,3 @@ def _has_list(value):
             alike = begins(part, "node", 3) and part[1] == part[2]
             waiting.extend(part[:2] if alike else part)
     return False
-
-
-def _is_second_half(source, parts):
-    """Tell whether the part that comes next is the right half of a node."""
-    return len(parts) == 2 and source[0] == "node"

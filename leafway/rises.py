@@ -29,10 +29,10 @@ def rise_length(old, size):
 
 def rise(sealer, log, old, size):
     """Return the rise of old and size in log."""
-    _check_sizes(old, size)
+    parts = rise_stretches(old, size)
     if len(log) < size:
         raise Unfit()
-    return tuple([seal_of_stretch(sealer, log, own) for own in rise_stretches(old, size)])
+    return tuple([seal_of_stretch(sealer, log, own) for own in parts])
 
 
 def roots_by_rise(sealer, old, size, way):

@@ -11,8 +11,6 @@ def is_entry(thing):
 
 def is_sealer(thing):
     """Tell whether thing is the published sealer or a made-up one."""
-    if not isinstance(thing, tuple):
-        return False
     if thing == ("sha",) or thing == ("whole",):
         return True
     return begins(thing, "weak", 3) and is_number_from(2, thing[1]) and is_number_from(0, thing[2])
@@ -29,8 +27,6 @@ def is_seal(sealer, thing):
 
 def is_matter(sealer, thing):
     """Tell whether thing is a matter by sealer."""
-    if sealer[0] == "whole":
-        return _is_whole_seal(thing)
     if _is_node(thing):
         return is_seal(sealer, thing[1]) and is_seal(sealer, thing[2])
     return _is_end(thing)

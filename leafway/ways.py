@@ -105,12 +105,12 @@ def stays(size, bigger, place):
 
 def shows(size, place, stretches):
     """Tell whether the seals of stretches, but of those that hold place, show it."""
-    return _first_hidden(size, place, tupled(stretches)) == size
+    return _first_hidden(size, place, stretches) == size
 
 
 def unlike_logs(size, place, stretches):
     """Return two logs of unlike roots with one entry at place and the same seals of stretches."""
-    hidden = _first_hidden(size, place, tupled(stretches))
+    hidden = _first_hidden(size, place, stretches)
     if hidden == size:
         raise CanNot()
     log = ("a",) * size

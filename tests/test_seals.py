@@ -299,6 +299,32 @@ class SealOf(unittest.TestCase):
         for matter in (("node", ["none"], ("none",)), ["node", ("none",), ["none"]], ("node", ["none"], ["none"])):
             self.assertEqual(repr(seal_of(list(WHOLE), matter)), repr(("node", NONE, NONE)))
 
+    def test_lists_deep_within_tuples(self):
+        for inner in (["leaf", "a"], ("node", LEAF, ["none"]), ("node", ["none"], NONE), ["node", LEAF, LEAF]):
+            for outer in (("node", NONE, inner), ("node", inner, NONE), ("node", inner, inner), ("node", LEAF, inner)):
+                for matter in (outer, ("node", NONE, outer), ("node", outer, outer)):
+                    told = seal_of(WHOLE, matter)
+                    self.assertEqual(listed(told), listed(matter))
+                    self.assertNotIn("[", repr(told))
+                    self.assertIs(is_seal(WHOLE, told), True)
+                    self.assertIs(is_seal(WHOLE, matter), False)
+
+    def test_lists_that_are_one_object(self):
+        matter = ["leaf", "a"]
+        for _ in range(100):
+            matter = ["node", matter, matter]
+        told = seal_of(WHOLE, matter)
+        self.assertIs(is_seal(WHOLE, told), True)
+        for _ in range(100):
+            told = told[2]
+        self.assertEqual(told, LEAF)
+
+    def test_tuples_are_kept_as_they_are(self):
+        # So what shares its parts is compared at once, however great it is.
+        seal = twins(100)
+        self.assertIs(seal_of(WHOLE, seal), seal)
+        self.assertIs(seal_of(WHOLE, ["node", seal, NONE])[1], seal)
+
     def test_nested_values_are_no_seals_of_few_signs(self):
         for thing in (nested(0, 100), nested("a", 100, list), nested(NONE, 99)):
             for sealer in (SHA, WHOLE, FEW):
