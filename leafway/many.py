@@ -4,7 +4,7 @@ from leafway.errors import CanNot, NoPlace, Unfit
 from leafway.nodes import check_place, halves, seal_from
 from leafway.plain import begins, is_number_from, is_pair, tupled
 from leafway.roots import head_of, is_head, seal_of_stretch
-from leafway.seals import is_entry, is_seals, sealed
+from leafway.seals import is_entry, is_log, is_seals, sealed
 from leafway.ways import way_length
 
 
@@ -63,9 +63,7 @@ def is_all(sealer, thing):
     if not begins(thing, "all", 3):
         return False
     _, head, log = thing
-    if not is_head(sealer, head) or not isinstance(log, tuple) or len(log) != head[0]:
-        return False
-    return all(is_entry(own) for own in log) and head_of(sealer, log) == head
+    return is_head(sealer, head) and is_log(log) and len(log) == head[0] and head_of(sealer, log) == head
 
 
 def thinned(sealer, told, places):

@@ -29,11 +29,11 @@ def halves_by(node, place):
 def is_node_of(size, stretch):
     """Tell whether stretch is one of the nodes of size."""
     begin, end = stretch
-    node = (0, size)
-    # The only node that stretch could be is one that holds its first place and is not shorter than it.
-    while node[1] - node[0] > end - begin:
-        node, _ = halves_by(node, begin)
-    return node == (begin, end)
+    many = end - begin
+    # Nodes begin at a multiple of the least power of 2 that is not below their length; only those at the end of
+    # size may have another number of places than that.
+    power = 1 << (many - 1).bit_length()
+    return begin % power == 0 and (end == size or (end < size and many == power))
 
 
 def even_parts(size):
@@ -42,7 +42,7 @@ def even_parts(size):
 
 
 def seal_from(sealer, seals, node):
-    """Return the seal of node that is in the dict seals, or comes of those of its halves."""
+    """Return the seal of node that is in the dict seals, or comes of those of its halves; seals keeps what came."""
     # A list of what is still to do instead of recursion: nodes may lie deeply within one another.
     waiting, found = [(node, False)], []
     while waiting:
@@ -50,7 +50,8 @@ def seal_from(sealer, seals, node):
         if has_halves:
             right = found.pop()
             left = found.pop()
-            found.append(sealed(sealer, ("node", left, right)))
+            seals[own] = sealed(sealer, ("node", left, right))
+            found.append(seals[own])
         elif own in seals:
             found.append(seals[own])
         else:

@@ -21,6 +21,20 @@ def is_pair(thing):
     return isinstance(thing, tuple) and len(thing) == 2
 
 
+def is_stretch(thing):
+    """Tell whether thing is a stretch: a pair of numbers from 0, the first below the second."""
+    return is_pair(thing) and is_number_from(0, thing[0]) and is_number(thing[1]) and thing[0] < thing[1]
+
+
+def number_in(figures, most):
+    """Return the number written by figures, at most so many, without a needless 0; None if there is none."""
+    if not 1 <= len(figures) <= most or not all(sign in "0123456789" for sign in figures):
+        return None
+    if figures[0] == "0" and len(figures) > 1:
+        return None
+    return int(figures)
+
+
 def tupled(value):
     """Return value with a tuple for each list in it, at any depth."""
     # A list of what is still open instead of recursion: made-up seals may be nested deeply.

@@ -37,6 +37,12 @@ def is_head(sealer, thing):
     return is_pair(thing) and is_number_from(0, thing[0]) and is_seal(sealer, thing[1])
 
 
+def has_head(sealer, log, head):
+    """Tell whether head is that of the first so many entries of log."""
+    size, top = head
+    return size <= len(log) and root(sealer, log[:size]) == top
+
+
 def stretches(size):
     """Return the stretches side by side from 0 to size, each as great a power of 2 as is left."""
     found, begin = [], 0

@@ -9,6 +9,11 @@ def is_entry(thing):
     return isinstance(thing, str) and len(thing) <= 200 and all(" " <= sign <= "~" for sign in thing)
 
 
+def is_log(thing):
+    """Tell whether thing is a tuple, maybe (), of entries."""
+    return isinstance(thing, tuple) and all(is_entry(own) for own in thing)
+
+
 def is_sealer(thing):
     """Tell whether thing is the published sealer or a made-up one."""
     if thing == ("sha",) or thing == ("whole",):

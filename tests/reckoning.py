@@ -1,6 +1,8 @@
 """Own reckonings, straight from the document's words, beside which the tests put the program's answers."""
 
+import bisect
 import hashlib
+import itertools
 
 
 def weak_number(m, k, matter):
@@ -253,16 +255,50 @@ def tops_form(sealer, thing):
     return len(thing[1]) == bin(thing[0]).count("1")
 
 
+def sets_below(size):
+    """All sets of places below size, but ()."""
+    return [places for length in range(1, size + 1) for places in itertools.combinations(range(size), length)]
+
+
+def told_entry(sealer, log, place):
+    """The told thing ("entry", ..) that the document's own words give, under the head of log."""
+    way = tuple(own_root(sealer, log[begin:end]) for begin, end in own_way(len(log), place))
+    return "entry", own_head(sealer, log), place, log[place], way
+
+
+def told_rise(sealer, log, old, size):
+    """The told thing ("rise", ..) between the heads of the first old and the first size entries."""
+    way = tuple(own_root(sealer, log[begin:end]) for begin, end in own_rise(old, size))
+    return "rise", own_head(sealer, log[:old]), own_head(sealer, log[:size]), way
+
+
+def told_many(sealer, log, places):
+    """The told thing ("many", ..) under the head of log."""
+    way = tuple(own_root(sealer, log[begin:end]) for begin, end in own_beside(0, len(log), places))
+    return "many", own_head(sealer, log), tuple((place, log[place]) for place in places), way
+
+
+def told_all(sealer, log):
+    """The told thing ("all", ..) of log."""
+    return "all", own_head(sealer, log), log
+
+
 class GreatLog:
     """A log too great to be told: great stretches in which nothing is looked at are sealed at will, as one."""
 
     def __init__(self, sealer, edges):
         self.sealer = sealer
-        self.edges = edges
+        self.edges = sorted(set(edges))
+        self.kept = {}
 
     def seal(self, begin, end):
-        many = end - begin
-        if many & (many - 1) == 0 and not any(begin < edge < end for edge in self.edges):
+        if (begin, end) not in self.kept:
+            self.kept[(begin, end)] = self.reckoned(begin, end)
+        return self.kept[(begin, end)]
+
+    def reckoned(self, begin, end):
+        many, behind = end - begin, bisect.bisect_right(self.edges, begin)
+        if many & (many - 1) == 0 and not any(edge < end for edge in self.edges[behind:behind + 1]):
             return leaf(self.sealer, str(begin) + " " + str(many))
         middle = begin + own_crown(many)
         return node(self.sealer, self.seal(begin, middle), self.seal(middle, end))

@@ -29,6 +29,17 @@ INTERFACE = {
     "many": {"many_stretches": "size places", "many_length": "size places", "many": "sealer log size places",
              "root_by_many": "sealer size entries way", "is_many": "sealer thing", "is_all": "sealer thing",
              "thinned": "sealer told places", "united": "sealer one other"},
+    "known": {"is_taken": "sealer thing", "tells": "sealer told", "opens": "sealer told", "rising": "things head",
+              "put_together": "sealer head things", "is_clash": "sealer thing", "is_true": "sealer told log",
+              "fills": "sealer known log", "needed": "known"},
+    "people": {"is_event": "thing", "holds": "sealer history person", "heads_told": "things",
+               "parting": "sealer things", "is_parting": "sealer thing", "can_tell": "sealer things",
+               "excuse": "sealer things", "is_excuse": "sealer things thing", "first_told": "sealer history",
+               "tellers": "sealer history", "asks": "things"},
+    "lies": {"is_change": "thing", "changed": "log change", "first_place": "log other",
+             "first_head": "sealer log other", "keeps": "sealer heads log", "missed": "sealer log change sizes",
+             "search": "sealer log other", "is_lie_paper": "sealer thing", "lie_paper": "sealer log other",
+             "lie_clash": "sealer paper log"},
 }
 
 

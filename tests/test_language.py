@@ -13,9 +13,17 @@ BUILTINS = set("""len range enumerate zip min max sum abs sorted reversed int st
 
 PLAIN = (ast.Import, ast.ImportFrom, ast.FunctionDef, ast.ClassDef, ast.Assign, ast.Expr)
 
-BARRED = (ast.Global, ast.Set, ast.Await, ast.AsyncFunctionDef, ast.Div, ast.Try, ast.Lambda, ast.With)
+BARRED = (ast.Global, ast.Nonlocal, ast.Set, ast.Await, ast.AsyncFunctionDef, ast.Div, ast.Lambda, ast.With,
+          ast.NamedExpr, ast.Match)
 
-WORDS = ("import *", "typing", "enum", "dataclass", "overload", "namedtuple", "_wall", "__name__")
+ERRORS = {"NoPlace", "BadText", "CanNot", "TooMuch", "Unfit"}
+
+METHODS = set("""append clear copy count endswith extend find get index insert isalnum isalpha isdigit islower isspace
+    isupper items join keys ljust lower lstrip partition pop remove replace reverse rfind rjust rpartition rsplit rstrip
+    setdefault split splitlines startswith strip update upper values zfill bit_length""".split())
+
+WORDS = (r"import \*", r"\btyping\b", r"\btype\b", r"\benum\b", "dataclass", "overload", r"\bnamedtuple\b", "_wall",
+         "__name__")
 
 
 class Language(unittest.TestCase):
@@ -49,7 +57,62 @@ class Language(unittest.TestCase):
                 self.assertNotIsInstance(node, BARRED, (path.name, getattr(node, "lineno", 0)))
                 self.assertFalse(getattr(node, "decorator_list", []), path.name)
             for word in WORDS:
-                self.assertNotIn(word, text, path.name)
+                self.assertIsNone(re.search(word, text), (path.name, word))
+
+    def test_own_errors_alone_are_caught_and_raised(self):
+        for path, _, tree in self.each():
+            for node in ast.walk(tree):
+                if isinstance(node, ast.Try):
+                    self.assertFalse(node.finalbody, (path.name, node.lineno))
+                    for handler in node.handlers:
+                        self.assertIsNone(handler.name)
+                        self.assertIn(handler.type.id, ERRORS, (path.name, handler.lineno))
+                if isinstance(node, ast.Raise):
+                    self.assertIn(node.exc.func.id, ERRORS, (path.name, node.lineno))
+
+    def test_methods(self):
+        own = {node.name for _, _, tree in self.each() for one in tree.body if isinstance(one, ast.ClassDef)
+               for node in one.body if isinstance(node, ast.FunctionDef)}
+        for path, _, tree in self.each():
+            for node in ast.walk(tree):
+                if isinstance(node, ast.Call) and isinstance(node.func, ast.Attribute):
+                    self.assertIn(node.func.attr, METHODS | own, (path.name, node.lineno))
+                    self.assertFalse(node.keywords, (path.name, node.lineno))
+
+    def test_tables_at_module_level(self):
+        for path, _, tree in self.each():
+            names = [node.targets[0].id for node in tree.body if isinstance(node, ast.Assign)]
+            self.assertEqual(len(names), len(set(names)), path.name)
+            for node in tree.body:
+                if isinstance(node, ast.Assign):
+                    inner = [one for one in ast.walk(node.value) if one is not node.value]
+                    self.assertFalse([one for one in inner if isinstance(one, (ast.List, ast.Dict, ast.Call))], path.name)
+
+    def test_names(self):
+        for path, _, tree in self.each():
+            for node in ast.walk(tree):
+                for name in (getattr(node, "id", ""), getattr(node, "name", ""), getattr(node, "attr", ""),
+                             getattr(node, "arg", "")):
+                    self.assertRegex(name or "_", r"\A(_|_?[A-Za-z][A-Za-z0-9_]*|__init__)\Z", path.name)
+
+    def test_a_call_passes_what_a_function_takes(self):
+        for path, _, tree in self.each():
+            takes = self.parameters(tree)
+            for node in ast.walk(tree):
+                if isinstance(node, ast.Call) and isinstance(node.func, ast.Name) and node.func.id in takes:
+                    self.assertFalse([one for one in node.args if isinstance(one, ast.Starred)], path.name)
+                    many = len(node.args) + len(node.keywords)
+                    self.assertEqual(many, takes[node.func.id], (path.name, node.lineno))
+
+    def parameters(self, tree):
+        """How many parameters each function has that a file defines or imports."""
+        trees = [(tree, None)]
+        for node in tree.body:
+            if isinstance(node, ast.ImportFrom):
+                file = ast.parse((PACKAGE / (node.module.split(".")[1] + ".py")).read_text())
+                trees.append((file, [one.name for one in node.names]))
+        return {node.name: len(node.args.args) for one, names in trees for node in one.body
+                if isinstance(node, ast.FunctionDef) and (names is None or node.name in names)}
 
     def test_imports_are_of_the_very_file_and_in_no_ring(self):
         needs = {}

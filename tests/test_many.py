@@ -9,8 +9,8 @@ from leafway.many import is_all, is_many, many, many_length, many_stretches, roo
 from leafway.roots import head_of, root, seal_of_stretch
 from leafway.ways import neighbours, way
 from tests.helper import check_call, check_thing, listed, odd_values, variants
-from tests.reckoning import GreatLog, all_taken, leaf, many_taken, own_beside, own_head, own_nodes, own_root
-from tests.reckoning import root_of_many
+from tests.reckoning import GreatLog, all_taken, leaf, many_taken, own_beside, own_head, own_nodes, root_of_many
+from tests.reckoning import sets_below, told_many
 
 SHA, WHOLE, FEW = ("sha",), ("whole",), ("weak", 1000, 5)
 WEAKEST = ("weak", 2, 0)
@@ -20,17 +20,6 @@ LOG = ("a", "b", "c", "d", "e", "f", "g", "h")
 TOP = 10 ** 18
 HUGE = (TOP, TOP - 1, 2 ** 59, 2 ** 59 - 1, 2 ** 59 + 1, 10 ** 17 + 12345)
 POOL = (True, None, -1, 0, 1, 7, "", "b", "0" * 64, (), ("none",), ("leaf", "a"), (0, "a"), TOP)
-
-
-def sets_below(size):
-    """All sets of places below size, but ()."""
-    return [places for length in range(1, size + 1) for places in itertools.combinations(range(size), length)]
-
-
-def told_many(sealer, log, places):
-    """The told thing that the document's own words give."""
-    way_by = tuple(own_root(sealer, log[begin:end]) for begin, end in own_beside(0, len(log), places))
-    return "many", own_head(sealer, log), tuple((place, log[place]) for place in places), way_by
 
 
 def drawn_sets(size, seed=0):

@@ -7,7 +7,7 @@ from leafway.errors import CanNot, Unfit
 from leafway.rises import is_rise, joined, rise, rise_length, rise_stretches, roots_by_rise
 from leafway.roots import head_of
 from tests.helper import check_call, check_thing, listed, odd_values, variants
-from tests.reckoning import GreatLog, leaf, node, own_nodes, own_rise, own_root, rise_taken, roots_up
+from tests.reckoning import GreatLog, leaf, node, own_nodes, own_rise, own_root, rise_taken, roots_up, told_rise
 
 SHA, WHOLE, FEW = ("sha",), ("whole",), ("weak", 1000, 5)
 SEALERS = (SHA, WHOLE, FEW, ("weak", 2, 0), ("weak", 10 ** 9, 10 ** 9))
@@ -26,12 +26,6 @@ def drawn_olds(size):
     for at in (1, 20, 40, 56):
         olds |= {2 ** at - 1, 2 ** at, 2 ** at + 1, 3 * 2 ** at}
     return sorted(own for own in olds if 1 <= own <= size)
-
-
-def told_rise(sealer, log, old, size):
-    """The told thing that the document's own words give."""
-    way = tuple(own_root(sealer, log[begin:end]) for begin, end in own_rise(old, size))
-    return "rise", (old, own_root(sealer, log[:old])), (size, own_root(sealer, log[:size])), way
 
 
 def unlike(sealer, seal):
