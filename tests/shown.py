@@ -161,7 +161,7 @@ def all_things(sealer, log):
 
 
 def chance_things(sealer, most, many, seed):
-    """Taken things of sizes up to most with any seals, as a liar would make them up; by weak sealers they often meet."""
+    """Taken things of sizes up to most with any seals, as a liar would make them up; weak ones often meet."""
     draw, found = random.Random(seed), []
 
     def drawn(count):

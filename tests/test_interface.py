@@ -40,6 +40,16 @@ INTERFACE = {
              "first_head": "sealer log other", "keeps": "sealer heads log", "missed": "sealer log change sizes",
              "search": "sealer log other", "is_lie_paper": "sealer thing", "lie_paper": "sealer log other",
              "lie_clash": "sealer paper log"},
+    "texts": {"sealer_text": "sealer", "seal_text": "sealer seal", "head_text": "sealer head", "log_text": "log",
+              "told_text": "sealer things", "known_text": "sealer known", "sealer_read": "text",
+              "seal_read": "sealer text", "head_read": "sealer text", "log_read": "text", "told_read": "sealer text",
+              "known_read": "sealer text"},
+    "files": {"file_text": "sealer log", "read_file": "sealer text", "rows_in": "sealer text", "mended": "sealer text",
+              "row_heads": "sealer text", "grown_file": "sealer text entry", "left_of": "sealer log many"},
+    "judge": {"is_claim": "thing", "is_so": "claim", "paper": "claim", "is_paper_for": "claim thing",
+              "is_paper_against": "claim thing", "verdicts": "claims things", "comes_of": "claim claims",
+              "first_false": "claims"},
+    "shell": {"shell": "text", "is_request": "thing"},
 }
 
 

@@ -155,7 +155,8 @@ class Rising(unittest.TestCase):
                     for head in (heads[0], heads[3], heads[8]):
                         self.assertEqual(repr(rising(things, head)), repr(own_rising(things, head)))
             self.assertEqual(rising((), heads[8]), (heads[8],))
-            self.assertEqual(rising(rises[:1] + list(each_word(sealer, LOG[:3])), heads[3]), (heads[1], heads[2], heads[3]))
+            self.assertEqual(rising(rises[:1] + list(each_word(sealer, LOG[:3])), heads[3]),
+                             (heads[1], heads[2], heads[3]))
             self.assertEqual(rising(rises[::-1], heads[8]), tuple(heads[own] for own in (1, 3, 5, 8)))
             self.assertEqual(rising(rises, heads[0]), (heads[0],))
 
@@ -211,7 +212,8 @@ class PutTogether(unittest.TestCase):
                 head = own_head(sealer, LOG[:size])
                 wanted = (head, (((0, size), head[1]),) if size > 0 else (), ())
                 self.assertEqual(put_together(sealer, head, ()), ("known", wanted))
-            self.assertEqual(put_together(sealer, (0, leaf(sealer, "z")), []), ("known", ((0, leaf(sealer, "z")), (), ())))
+            self.assertEqual(put_together(sealer, (0, leaf(sealer, "z")), []),
+                             ("known", ((0, leaf(sealer, "z")), (), ())))
             none = own_head(sealer, ())
             self.assertEqual(put_together(sealer, none, [told_all(sealer, ())]), ("known", (none, (), ())))
             self.assertRaises(Unfit, put_together, sealer, own_head(sealer, LOG), [told_all(sealer, ())])
@@ -303,7 +305,8 @@ class PutTogether(unittest.TestCase):
             things = each_word(sealer, LOG[:5]) + (told_entry(sealer, LOG[:4], 2),)
             result = check_call(self, put_together, sealer, own_head(sealer, LOG[:5]), things)
             self.assertEqual(repr(result), repr(("known", own_known(sealer, own_head(sealer, LOG[:5]), things))))
-        self.assertEqual(check_call(self, put_together, WEAKEST, (1, 0), [("entry", (1, 0), 0, own, ()) for own in "ac"]),
+        self.assertEqual(check_call(self, put_together, WEAKEST, (1, 0),
+                                    [("entry", (1, 0), 0, own, ()) for own in "ac"]),
                          ("clash", A, C))
 
     def test_at_the_bounds(self):

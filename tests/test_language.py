@@ -86,7 +86,8 @@ class Language(unittest.TestCase):
             for node in tree.body:
                 if isinstance(node, ast.Assign):
                     inner = [one for one in ast.walk(node.value) if one is not node.value]
-                    self.assertFalse([one for one in inner if isinstance(one, (ast.List, ast.Dict, ast.Call))], path.name)
+                    self.assertFalse([one for one in inner if isinstance(one, (ast.List, ast.Dict, ast.Call))],
+                                     path.name)
 
     def test_names(self):
         for path, _, tree in self.each():

@@ -160,7 +160,8 @@ class Places(unittest.TestCase):
                     self.assertEqual(first_head(sealer, log, other), place + 1)
         self.assertEqual(first_place(LONG, LONG[:299] + ("x",)), 299)
         self.assertEqual(first_head(WHOLE, LONG, LONG[:299] + ("x",)), 300)
-        self.assertEqual((first_place(LONG, LONG), first_place(LONG, LONG[:299]), first_place((), LONG)), (None, 299, 0))
+        self.assertEqual((first_place(LONG, LONG), first_place(LONG, LONG[:299]), first_place((), LONG)),
+                         (None, 299, 0))
 
 
 class Keeps(unittest.TestCase):
@@ -173,7 +174,8 @@ class Keeps(unittest.TestCase):
 
     def test_keeps(self):
         for sealer in SEALERS:
-            heads = [own_head(sealer, LOG[:size]) for size in range(6)] + [(size, leaf(sealer, "z")) for size in range(9)]
+            heads = [own_head(sealer, LOG[:size]) for size in range(6)] + [(size, leaf(sealer, "z"))
+                                                                           for size in range(9)]
             heads += [(TOP, leaf(sealer, "z")), own_head(sealer, LOG + ("fay 7",)), own_head(sealer, LOG[1:])]
             for log in (LOG, LOG[:3], (), LOG[:2] + ("x",)):
                 wanted = tuple(size <= len(log) and own_root(sealer, log[:size]) == top for size, top in heads)

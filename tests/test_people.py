@@ -277,7 +277,8 @@ class Excuses(unittest.TestCase):
                 seen[own_can(sealer, own)] += 1
                 if own_can(sealer, own):
                     self.assertRaises(CanNot, excuse, sealer, own)
-                    self.assertIs(is_excuse(sealer, own, ("a",) * max(head[0] for one in own for head in heads_in(one))),
+                    self.assertIs(is_excuse(sealer, own, ("a",) * max(head[0] for one in own
+                                                                      for head in heads_in(one))),
                                   False)
                 else:
                     self.check(sealer, own)
@@ -286,14 +287,16 @@ class Excuses(unittest.TestCase):
     def test_things_alike_are_true_of_it(self):
         """A server with the excuse shows as much: the same stretches told and opened, one seal each."""
         for sealer in (WHOLE, FEW):
-            things = (told_entry(sealer, LOG[:5], 1), told_rise(sealer, OTHER[:7], 3, 6), told_many(sealer, LOG[:2], (0,)))
+            things = (told_entry(sealer, LOG[:5], 1), told_rise(sealer, OTHER[:7], 3, 6),
+                      told_many(sealer, LOG[:2], (0,)))
             things = things if not own_can(sealer, things) else things[:1]
             log = excuse(sealer, things)
             for told in things:
                 alike = {"entry": lambda: told_entry(sealer, log[:told[1][0]], told[2]),
                          "rise": lambda: told_rise(sealer, log, told[1][0], told[2][0]),
                          "many": lambda: told_many(sealer, log[:told[1][0]], [at for at, _ in told[2]])}[told[0]]()
-                self.assertEqual([own for own, _ in own_told(sealer, alike)[0]], [own for own, _ in own_told(sealer, told)[0]])
+                self.assertEqual([own for own, _ in own_told(sealer, alike)[0]],
+                                 [own for own, _ in own_told(sealer, told)[0]])
                 self.assertEqual(entries_in(alike), entries_in(told))
 
     def test_which_error_comes_first(self):
@@ -333,7 +336,8 @@ class Excuses(unittest.TestCase):
 class Meetings(unittest.TestCase):
 
     def test_examples(self):
-        told = (first_told(WHOLE, STORY), first_told(WHOLE, STORY[:4]), tellers(WHOLE, STORY[:3]), tellers(WHOLE, STORY))
+        told = (first_told(WHOLE, STORY), first_told(WHOLE, STORY[:4]), tellers(WHOLE, STORY[:3]),
+                tellers(WHOLE, STORY))
         self.assertEqual(told, ((4, (1, 2)), None, ((0, 1),), ()))
 
     def own_first(self, sealer, behind):
