@@ -3,48 +3,23 @@
 from leafway.errors import Unfit
 from leafway.known import put_together
 from leafway.lies import changed, lie_paper, lost_size
-from leafway.papers import is_entry_against, is_entry_claim, is_entry_for, is_entry_so, is_first_of
-from leafway.papers import is_known_against, is_known_claim, is_known_for, is_known_so
-from leafway.papers import is_lie_claim, is_lie_for, is_lie_so, is_missed_against, is_missed_claim, is_missed_so
-from leafway.papers import is_nothing, is_rise_against, is_rise_claim, is_rise_for, is_rise_so
-from leafway.papers import is_told_against, is_told_claim, is_told_for, is_told_so
+from leafway.papers import has_claim_form, is_first_of, says_so, verdict_on
 from leafway.people import excuse, first_parting
 from leafway.plain import tupled
 from leafway.rises import rise
 from leafway.roots import head_of
-from leafway.seals import is_sealer
 from leafway.telling import all_told, clash_among
 from leafway.ways import way
-
-# How many parts a claim of each kind has.
-_PARTS = {"entry": 5, "rise": 4, "known": 4, "told": 3, "lie": 4, "missed": 5}
-
-_FORMS = {"entry": is_entry_claim, "rise": is_rise_claim, "known": is_known_claim, "told": is_told_claim,
-          "lie": is_lie_claim, "missed": is_missed_claim}
-
-_TRUTHS = {"entry": is_entry_so, "rise": is_rise_so, "known": is_known_so, "told": is_told_so,
-           "lie": is_lie_so, "missed": is_missed_so}
-
-_PAPERS_FOR = {"entry": is_entry_for, "rise": is_rise_for, "known": is_known_for, "told": is_told_for,
-               "lie": is_lie_for, "missed": is_nothing}
-
-_PAPERS_AGAINST = {"entry": is_entry_against, "rise": is_rise_against, "known": is_known_against,
-                   "told": is_told_against, "lie": is_nothing, "missed": is_missed_against}
 
 
 def is_claim(thing):
     """Tell whether thing is a claim."""
-    if not isinstance(thing, tuple) or len(thing) < 2 or not isinstance(thing[0], str) or thing[0] not in _PARTS:
-        return False
-    if len(thing) != _PARTS[thing[0]] or not is_sealer(thing[1]):
-        return False
-    has_form = _FORMS[thing[0]]
-    return has_form(thing)
+    return has_claim_form(thing)
 
 
 def is_so(claim):
     """Tell whether claim is so."""
-    return _is_so(_checked(claim))
+    return says_so(_checked(claim))
 
 
 def paper(claim):
@@ -56,12 +31,12 @@ def paper(claim):
 
 def is_paper_for(claim, thing):
     """Tell whether thing is a paper for claim."""
-    return _verdict(_checked(claim), thing) == "for"
+    return verdict_on(_checked(claim), thing) == "for"
 
 
 def is_paper_against(claim, thing):
     """Tell whether thing is a paper against claim."""
-    return _verdict(_checked(claim), thing) == "against"
+    return verdict_on(_checked(claim), thing) == "against"
 
 
 def verdicts(claims, things):
@@ -69,7 +44,7 @@ def verdicts(claims, things):
     owns = [_checked(claim) for claim in claims]
     if len(owns) != len(things):
         raise Unfit()
-    return [_verdict(own, thing) for own, thing in zip(owns, things)]
+    return [verdict_on(own, thing) for own, thing in zip(owns, things)]
 
 
 def comes_of(claim, claims):
@@ -83,7 +58,7 @@ def first_false(claims):
     """Return the first place in claims of one that is not so; None without."""
     owns = [_checked(claim) for claim in claims]
     for place, own in enumerate(owns):
-        if not _is_so(own):
+        if not says_so(own):
             return place
     return None
 
@@ -91,25 +66,9 @@ def first_false(claims):
 def _checked(claim):
     """Return claim with tuples alone; Unfit() if it is none."""
     own = tupled(claim)
-    if not is_claim(own):
+    if not has_claim_form(own):
         raise Unfit()
     return own
-
-
-def _is_so(claim):
-    """Tell whether a claim that has been checked is so."""
-    holds_true = _TRUTHS[claim[0]]
-    return holds_true(claim)
-
-
-def _verdict(claim, thing):
-    """Return "for" or "against", if thing is such a paper, otherwise "none"."""
-    # Asked first: by weak seals a paper may fit, by chance, a claim that it does not stand for.
-    if _is_so(claim):
-        is_for = _PAPERS_FOR[claim[0]]
-        return "for" if is_for(claim, thing) else "none"
-    is_against = _PAPERS_AGAINST[claim[0]]
-    return "against" if is_against(claim, thing) else "none"
 
 
 def _entry_paper(claim):
@@ -149,7 +108,7 @@ def _told_paper(claim):
 def _lie_paper(claim):
     """Return a lie paper, or ()."""
     _, sealer, log, other = claim
-    return lie_paper(sealer, log, other) if _is_so(claim) else ()
+    return lie_paper(sealer, log, other) if says_so(claim) else ()
 
 
 def _missed_paper(claim):

@@ -5,37 +5,34 @@ All of this takes claims without lists in them.
 
 from leafway.known import all_rise, is_clash, is_taken, put_together
 from leafway.lies import changed, is_change, is_lie_paper, lost_size, wrong_number
-from leafway.people import can_tell, is_excuse, is_parting
+from leafway.people import EXCUSE_SIZE, can_tell, is_excuse, is_parting
 from leafway.plain import is_number, is_number_from, is_pair
 from leafway.rises import is_rise
 from leafway.roots import has_head, head_of, is_head
-from leafway.seals import is_entry, is_log
+from leafway.seals import is_entry, is_log, is_sealer
 from leafway.telling import all_told, heads_of
 from leafway.ways import is_way
 
-# No excuse is greater than this, so no claim ("told", ..) is about greater heads.
-_MOST = 300
 
-
-def is_entry_claim(claim):
+def _is_entry_claim(claim):
     """Tell whether a tuple ("entry", sealer, log, place, entry) is a claim."""
     _, _, log, place, entry = claim
     return is_log(log) and is_number_from(0, place) and is_entry(entry)
 
 
-def is_entry_so(claim):
+def _is_entry_so(claim):
     """Tell whether entry stands at place of log."""
     _, _, log, place, entry = claim
     return place < len(log) and log[place] == entry
 
 
-def is_entry_for(claim, thing):
+def _is_entry_for(claim, thing):
     """Tell whether thing is a way that shows the entry of a claim that is so."""
     _, sealer, log, place, entry = claim
     return is_way(sealer, head_of(sealer, log), place, entry, thing)
 
 
-def is_entry_against(claim, thing):
+def _is_entry_against(claim, thing):
     """Tell whether thing shows another entry than that of a claim that is not so, or log has no such place."""
     _, sealer, log, place, entry = claim
     if place >= len(log):
@@ -45,25 +42,25 @@ def is_entry_against(claim, thing):
     return is_way(sealer, head_of(sealer, log), place, thing[0], thing[1])
 
 
-def is_rise_claim(claim):
+def _is_rise_claim(claim):
     """Tell whether a tuple ("rise", sealer, log, old) is a claim."""
     _, sealer, log, old = claim
     return is_log(log) and is_head(sealer, old) and old[0] > 0
 
 
-def is_rise_so(claim):
+def _is_rise_so(claim):
     """Tell whether old is the head of log's first so many entries."""
     _, sealer, log, old = claim
     return has_head(sealer, log, old)
 
 
-def is_rise_for(claim, thing):
+def _is_rise_for(claim, thing):
     """Tell whether thing is a way of the rise of a claim that is so."""
     _, sealer, log, old = claim
     return is_rise(sealer, ("rise", old, head_of(sealer, log), thing))
 
 
-def is_rise_against(claim, thing):
+def _is_rise_against(claim, thing):
     """Tell whether thing shows another head than that of a claim that is not so, or log has fewer entries."""
     _, sealer, log, old = claim
     if old[0] > len(log):
@@ -73,19 +70,19 @@ def is_rise_against(claim, thing):
     return is_rise(sealer, ("rise", thing[0], head_of(sealer, log), thing[1]))
 
 
-def is_known_claim(claim):
+def _is_known_claim(claim):
     """Tell whether a tuple ("known", sealer, head, things) is a claim."""
     _, sealer, head, things = claim
     return is_head(sealer, head) and _are_taken(sealer, things) and all_rise(things, head)
 
 
-def is_known_so(claim):
+def _is_known_so(claim):
     """Tell whether things do not clash."""
     _, sealer, head, things = claim
     return put_together(sealer, head, things)[0] == "known"
 
 
-def is_known_for(claim, thing):
+def _is_known_for(claim, thing):
     """Tell whether thing is what is known by the things of a claim that is so."""
     _, sealer, head, things = claim
     _, known = put_together(sealer, head, things)
@@ -99,25 +96,25 @@ def is_known_for(claim, thing):
     return not any(isinstance(own, bool) for own in values)
 
 
-def is_known_against(claim, thing):
+def _is_known_against(claim, thing):
     """Tell whether thing is a clash by which two things of a claim open one stretch."""
     _, sealer, _, things = claim
     return _is_clash_in(sealer, things, thing)
 
 
-def is_told_claim(claim):
+def _is_told_claim(claim):
     """Tell whether a tuple ("told", sealer, things) is a claim."""
     _, sealer, things = claim
-    return _are_taken(sealer, things) and all(own[0] <= _MOST for told in things for own in heads_of(told))
+    return _are_taken(sealer, things) and all(own[0] <= EXCUSE_SIZE for told in things for own in heads_of(told))
 
 
-def is_told_so(claim):
+def _is_told_so(claim):
     """Tell whether things can be told."""
     _, sealer, things = claim
     return can_tell(sealer, things)
 
 
-def is_told_for(claim, thing):
+def _is_told_for(claim, thing):
     """Tell whether thing is a parting of two things of a claim that is so, or a clash."""
     _, sealer, things = claim
     if is_parting(sealer, thing):
@@ -125,25 +122,25 @@ def is_told_for(claim, thing):
     return _is_clash_in(sealer, things, thing)
 
 
-def is_told_against(claim, thing):
+def _is_told_against(claim, thing):
     """Tell whether thing is an excuse for the things of a claim that is not so."""
     _, sealer, things = claim
     return is_excuse(sealer, things, thing)
 
 
-def is_lie_claim(claim):
+def _is_lie_claim(claim):
     """Tell whether a tuple ("lie", sealer, log, other) is a claim."""
     _, _, log, other = claim
     return is_log(log) and is_log(other)
 
 
-def is_lie_so(claim):
+def _is_lie_so(claim):
     """Tell whether neither log is the first so many of the other."""
     _, _, log, other = claim
     return not is_first_of(log, other) and not is_first_of(other, log)
 
 
-def is_lie_for(claim, thing):
+def _is_lie_for(claim, thing):
     """Tell whether thing is a lie paper under the heads of both logs."""
     _, sealer, log, other = claim
     if not is_lie_paper(sealer, thing):
@@ -151,12 +148,12 @@ def is_lie_for(claim, thing):
     return thing[0][1] == head_of(sealer, log) and thing[1][1] == head_of(sealer, other)
 
 
-def is_nothing(_claim, thing):
+def _is_nothing(_claim, thing):
     """Tell whether thing is (), all that there is to show for some claims and against some."""
     return thing == ()
 
 
-def is_missed_claim(claim):
+def _is_missed_claim(claim):
     """Tell whether a tuple ("missed", sealer, log, change, sizes) is a claim."""
     _, _, log, change, sizes = claim
     if not is_log(log) or not is_change(change) or wrong_number(log, change) is not None:
@@ -164,13 +161,13 @@ def is_missed_claim(claim):
     return _is_set_to(len(log), sizes)
 
 
-def is_missed_so(claim):
+def _is_missed_so(claim):
     """Tell whether log changed has all heads of log of sizes."""
     _, sealer, log, change, sizes = claim
     return lost_size(sealer, log, changed(log, change), sizes) is None
 
 
-def is_missed_against(claim, thing):
+def _is_missed_against(claim, thing):
     """Tell whether thing is a size of sizes of which log changed has not got log's head."""
     _, sealer, log, change, sizes = claim
     if not is_number(thing) or thing not in sizes:
@@ -207,3 +204,45 @@ def _is_clash_in(sealer, things, thing):
 def _stretches_opened(tables, matter):
     """Return a dict of the stretches that are opened by matter in one of tables."""
     return {stretch: True for table in tables for stretch, own in table.items() if own == matter}
+
+
+# How many parts a claim of each kind has.
+_LENGTHS = {"entry": 5, "rise": 4, "known": 4, "told": 3, "lie": 4, "missed": 5}
+
+_FORMS = {"entry": _is_entry_claim, "rise": _is_rise_claim, "known": _is_known_claim, "told": _is_told_claim,
+          "lie": _is_lie_claim, "missed": _is_missed_claim}
+
+_TRUTHS = {"entry": _is_entry_so, "rise": _is_rise_so, "known": _is_known_so, "told": _is_told_so, "lie": _is_lie_so,
+           "missed": _is_missed_so}
+
+_PAPERS_FOR = {"entry": _is_entry_for, "rise": _is_rise_for, "known": _is_known_for, "told": _is_told_for,
+               "lie": _is_lie_for, "missed": _is_nothing}
+
+_PAPERS_AGAINST = {"entry": _is_entry_against, "rise": _is_rise_against, "known": _is_known_against,
+                   "told": _is_told_against, "lie": _is_nothing, "missed": _is_missed_against}
+
+
+def has_claim_form(thing):
+    """Tell whether thing is a claim."""
+    if not isinstance(thing, tuple) or len(thing) < 2 or not isinstance(thing[0], str) or thing[0] not in _LENGTHS:
+        return False
+    if len(thing) != _LENGTHS[thing[0]] or not is_sealer(thing[1]):
+        return False
+    has_form = _FORMS[thing[0]]
+    return has_form(thing)
+
+
+def says_so(claim):
+    """Tell whether a claim is so."""
+    is_true_of = _TRUTHS[claim[0]]
+    return is_true_of(claim)
+
+
+def verdict_on(claim, thing):
+    """Return "for" or "against", if thing is such a paper, otherwise "none"."""
+    # Asked first: by weak seals a paper may fit, by chance, a claim that it does not stand for.
+    if says_so(claim):
+        is_for = _PAPERS_FOR[claim[0]]
+        return "for" if is_for(claim, thing) else "none"
+    is_against = _PAPERS_AGAINST[claim[0]]
+    return "against" if is_against(claim, thing) else "none"

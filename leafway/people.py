@@ -6,8 +6,8 @@ from leafway.plain import begins, is_number_from, is_stretch, tupled
 from leafway.seals import is_log
 from leafway.telling import all_told, clash_among, heads_of, parting_among, quarrels_among
 
-# No excuse is greater than this.
-_MOST = 300
+# No excuse has more entries than this.
+EXCUSE_SIZE = 300
 
 
 def is_event(thing):
@@ -68,7 +68,7 @@ def excuse(sealer, things):
         raise CanNot()
     shown = tupled(things)
     size = _greatest_size(shown)
-    if size > _MOST:
+    if size > EXCUSE_SIZE:
         raise TooMuch()
     entries = dict(entries_in(shown))
     return tuple([entries.get(place, "") for place in range(size)])

@@ -122,11 +122,13 @@ def _seals_on_way(told):
 
 def _add_nodes(sealer, seals, matters):
     """Add to both dicts the nodes of whatever size whose halves have seals."""
-    ends = sorted({end for _, end in seals})
-    for end in ends:
-        begin = end - 1
-        # All nodes that end here begin where 1s, from the last one on, are taken out of begin, one by one. Such a one
-        # is the right half of the next one, and the left half ends ahead of end: it has been looked at before.
+    latest = {}
+    for begin, end in seals:
+        latest[end] = max(begin, latest.get(end, 0))
+    for end in sorted(latest):
+        begin = latest[end]
+        # All nodes that end here begin where 1s, written by twos, are taken out of begin, from the last one on. Such
+        # a one is the right half of the next one, and the left half ends ahead of end: it has been looked at before.
         while begin > 0:
             ahead = begin - (begin & -begin)
             node = (ahead, end)

@@ -88,6 +88,10 @@ class Language(unittest.TestCase):
                     inner = [one for one in ast.walk(node.value) if one is not node.value]
                     self.assertFalse([one for one in inner if isinstance(one, (ast.List, ast.Dict, ast.Call))],
                                      path.name)
+                    above = {one.name for one in tree.body
+                             if isinstance(one, ast.FunctionDef) and one.lineno < node.lineno}
+                    used = {one.id for one in inner if isinstance(one, ast.Name) and isinstance(one.ctx, ast.Load)}
+                    self.assertLessEqual(used, above, path.name)
 
     def test_names(self):
         for path, _, tree in self.each():
