@@ -18,7 +18,7 @@ class Lines:
         """Return the number of the line, or of the one behind the last."""
         return self.at + 1
 
-    def line(self):
+    def row(self):
         """Return the line; BadText if there is none."""
         if not self.has_more():
             raise BadText(self.number())
@@ -35,13 +35,13 @@ class Lines:
 
     def begins(self, word):
         """Tell whether there is a line that begins with word and a blank."""
-        return self.has_more() and self.line().startswith(word + " ")
+        return self.has_more() and self.row().startswith(word + " ")
 
     def behind(self, word):
         """Return what stands in the line behind word and a blank; BadText if it does not begin so."""
         if not self.begins(word):
             raise BadText(self.number())
-        return self.line()[len(word) + 1:]
+        return self.row()[len(word) + 1:]
 
     def two_behind(self, word):
         """Return what stands behind word up to the next blank, and behind that; BadText if there are not both."""

@@ -144,13 +144,17 @@ def _numbered(sealer, history):
     things, story = [], []
     for event in tupled(history):
         word, one, other = event
-        if word == "show" and is_taken(sealer, other):
-            if other not in things:
-                things.append(other)
-            story.append((word, one, things.index(other)))
-        else:
-            story.append((word, one, None if word == "show" else other))
+        story.append((word, one, _number_of(sealer, things, other) if word == "show" else other))
     return things, story
+
+
+def _number_of(sealer, things, thing):
+    """Return the number of thing in things, behind which it is put if it is taken; None if it is not."""
+    if not is_taken(sealer, thing):
+        return None
+    if thing not in things:
+        things.append(thing)
+    return things.index(thing)
 
 
 def _go_on(held, event):

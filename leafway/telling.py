@@ -128,12 +128,11 @@ def _add_nodes(sealer, seals, matters):
     for end in sorted(latest):
         begin = latest[end]
         # All nodes that end here begin where 1s, written by twos, are taken out of begin, from the last one on. Such
-        # a one is the right half of the next one, and the left half ends ahead of end: it has been looked at before.
+        # a one is the right half of the next one. The left half ends ahead of end, so it has been looked at before;
+        # and it has a seal, as all places ahead of a told stretch are told of, too.
         while begin > 0:
             ahead = begin - (begin & -begin)
-            node = (ahead, end)
-            if (ahead, begin) in seals and (begin, end) in seals:
-                matters[node] = ("node", seals[(ahead, begin)], seals[(begin, end)])
-                if node not in seals:
-                    seals[node] = sealed(sealer, matters[node])
+            matters[(ahead, end)] = ("node", seals[(ahead, begin)], seals[(begin, end)])
+            if (ahead, end) not in seals:
+                seals[(ahead, end)] = sealed(sealer, matters[(ahead, end)])
             begin = ahead

@@ -59,7 +59,7 @@ def known_text(sealer, known):
 def sealer_read(text):
     """Return the sealer with this text."""
     lines = Lines(text)
-    words = lines.line().split(" ")
+    words = lines.row().split(" ")
     numbers = [number_in(own, _FIGURES) for own in words[1:]]
     if words == ["sha"] or words == ["whole"]:
         sealer = (words[0],)
@@ -100,7 +100,7 @@ def told_read(sealer, text):
     """Return the told things with this text."""
     lines, things = Lines(text), []
     while lines.has_more():
-        word = lines.line()
+        word = lines.row()
         if word not in _PARTS:
             raise BadText(lines.number())
         lines.step()
@@ -113,7 +113,7 @@ def told_read(sealer, text):
 def known_read(sealer, text):
     """Return the known log with this text."""
     lines = Lines(text)
-    if lines.line() != "known":
+    if lines.row() != "known":
         raise BadText(1)
     lines.step()
     head = _head_from(sealer, lines, "head", 0)

@@ -66,7 +66,8 @@ def event_form(thing):
 class Events(unittest.TestCase):
 
     def test_right_ones_and_others(self):
-        for thing in STORY + (("show", TOP, None), ("show", 0, ()), ("show", 0, [[]]), ("meet", 0, TOP)):
+        for thing in STORY + (("show", TOP, None), ("show", 0, ()), ("show", 0, [[]]), ("meet", 0, TOP),
+                              ("meet", 1, 0)):
             check_thing(self, is_event, thing, True)
         for thing in (("show", True, MINE), ("show", -1, MINE), ("meet", 1, 1), ("meet", True, 0), ("meet", -1, 0),
                       ("meet", 0, False), ("meet", 1, "0"), ("told", 0, MINE), ("show", 0), ("meet", 0, 1, 2),
@@ -204,6 +205,13 @@ class Partings(unittest.TestCase):
             for stretch in ((0, 1), (0, 2), (1, 1), (2, 1), (2, 4), (True, 2), (-1, 2), (0, TOP), [1, 2], (1, 2, 3)):
                 thing = (stretch, one, other)
                 check_thing(self, is_parting, thing, parting_form(sealer, thing), sealer)
+
+    def test_stretches_that_just_one_tells(self):
+        for sealer in (SHA, WHOLE, FEW):
+            one, other = told_entry(sealer, LOG[:2], 1), told_entry(sealer, OTHER[1:6], 4)
+            for stretch in [own for own, _ in own_told(sealer, one)[0] + own_told(sealer, other)[0]]:
+                for thing in ((stretch, one, other), (stretch, other, one)):
+                    check_thing(self, is_parting, thing, parting_form(sealer, thing), sealer)
 
     def test_values_of_all_kinds(self):
         for thing in odd_values():
